@@ -163,7 +163,7 @@ func someAttr(next func(n int) int) (string, string) {
 	case 2:
 		return "for", ids[next(len(ids))]
 	case 3:
-		return []string{"aria-labelledby", "aria-labelledby", "aria-describedby", "aria-owns"}[next(4)], list()
+		return []string{"aria-labelledby", "aria-labelledby", "aria-describedby", "aria-describedby", "aria-owns"}[next(5)], list()
 	case 4, 5:
 		return somePlain(next)
 	}

@@ -379,15 +379,58 @@ func TestAnInputWithinItsLabel(t *testing.T) {
 	checkMemo(t, d, 5, "Name v yes", "", 0, 1, 2, 3, 4, 5)
 }
 
-// TestALabelForAnotherOnesName: an input that is asked for another one's name asks its label, and that was listed, if the input was.
+// TestALabelForAnotherOnesName: an input that is asked for another one's name asks its label.
 func TestALabelForAnotherOnesName(t *testing.T) {
 	d := grow(t, field(t), attr(3, "type", "checkbox"), element(0, "nav"), labelledby(4, "box"))
 	checkMemo(t, d, 4, "Name", "", 0, 1, 2, 3, 4)
-	checkMemo(t, grow(t, d, hidden(1)), 4, "Name", "", 0, 1, 2, 3, 4)
 	checkMemo(t, grow(t, d, attr(3, "type", "text")), 4, "", "", 0, 3, 4) // a textbox is asked for its value alone
 	d = build(t, element(0, "label"), text(1, "Name"), element(0, "button"), element(3, "input"), attr(1, "for", "box"), id(4, "box"), attr(4, "type", "checkbox"))
 	checkMemo(t, d, 3, "Name", "", 0, 1, 2, 3, 4)
 	checkMemo(t, grow(t, d, hidden(1)), 3, "", "", 0, 1, 3, 4)
+}
+
+// TestALabelIsNotListedWithItsInput: it is not in it.
+func TestALabelIsNotListedWithItsInput(t *testing.T) {
+	d := grow(t, field(t), attr(3, "type", "checkbox"), element(0, "nav"), labelledby(4, "box"), describedby(4, "box"))
+	checkMemo(t, d, 4, "Name", "Name", 0, 1, 2, 3, 4)
+	for _, name := range []string{"hidden", "aria-hidden"} {
+		e := with(t, d, 1, name, "true")
+		checkMemo(t, e, 4, "", "", 0, 1, 3, 4)
+		checkMemo(t, with(t, e, 4, "aria-label", "l"), 4, "l", "", 0, 1, 3, 4) // neither for its name nor for its About
+		checkMemo(t, with(t, e, 3, "title", "t"), 4, "t", "t", 0, 1, 3, 4)
+		checkMemo(t, with(t, e, 3, name, "true"), 4, "", "", 0, 1, 3, 4)
+		checkMemo(t, with(t, d, 3, name, "true"), 4, "Name", "Name", 0, 1, 2, 3, 4)
+	}
+	// what is hidden in a label that is not
+	e := grow(t, d, element(1, "b"), text(5, "not"), hidden(5))
+	checkMemo(t, e, 4, "Name", "Name", 0, 1, 2, 3, 4, 5)
+	checkMemo(t, grow(t, e, moved(2, 5, -1)), 4, "", "", 0, 1, 3, 4, 5)
+	// what is in the input was listed, its label was not
+	e = grow(t, d, hidden(1), element(3, "b"), text(5, "in it"), hidden(5))
+	checkMemo(t, e, 4, "in it", "in it", 0, 1, 3, 4, 5, 6)
+	// a label of an input in a div that was listed, but that one is not in it
+	e = grow(t, d, hidden(1), element(0, "div"), moved(3, 5, -1), id(5, "x"), labelledby(4, "x"), describedby(4, "x"))
+	checkMemo(t, e, 4, "", "", 0, 1, 3, 4, 5)
+}
+
+// TestAHiddenLabelThatIsListed: by itself, or with what it is in; not by one whose turn comes after it was asked.
+func TestAHiddenLabelThatIsListed(t *testing.T) {
+	d := grow(t, field(t), attr(3, "type", "checkbox"), hidden(1), id(1, "l"), element(0, "nav"))
+	checkMemo(t, grow(t, d, labelledby(4, "l")), 4, "Name", "", 0, 1, 2, 4)
+	checkMemo(t, grow(t, d, labelledby(4, "l box")), 4, "Name", "", 0, 1, 2, 3, 4)
+	checkMemo(t, grow(t, d, labelledby(4, "box l")), 4, "", "", 0, 1, 3, 4)
+	checkMemo(t, grow(t, d, attr(4, "aria-label", "a"), describedby(4, "l")), 4, "a", "Name", 0, 1, 2, 4)
+	// 5 has both: the label was listed with it, whether the input asks it or 5
+	d = grow(t, d, element(0, "div"), moved(3, 5, -1), moved(1, 5, -1), id(5, "x"), labelledby(4, "x"))
+	checkMemo(t, d, 4, "Name", "", 0, 1, 2, 3, 4, 5)
+	checkMemo(t, grow(t, d, moved(1, 5, 3)), 4, "Name", "", 0, 1, 2, 3, 4, 5)
+	checkMemo(t, grow(t, d, element(5, "div"), moved(1, 6, -1)), 4, "Name", "", 0, 1, 2, 3, 4, 5, 6)
+	// one that 5 owns is in it, one that another one owns is not
+	checkMemo(t, grow(t, d, moved(1, 0, -1), attr(5, "aria-owns", "l")), 4, "Name", "", 0, 1, 2, 3, 4, 5)
+	checkMemo(t, grow(t, d, element(0, "p"), attr(6, "aria-owns", "l")), 4, "", "", 0, 1, 3, 4, 5)
+	// a label in its input was listed with it
+	d = grow(t, field(t), attr(3, "type", "checkbox"), hidden(1), moved(1, 3, -1), element(0, "nav"), labelledby(4, "box"))
+	checkMemo(t, d, 4, "Name", "", 0, 1, 2, 3, 4)
 }
 
 func TestNamesOfWhatIsInItComeInTurn(t *testing.T) {
@@ -457,19 +500,43 @@ func TestAboutMayBeTheName(t *testing.T) {
 func TestAboutAsksForAnotherOnesName(t *testing.T) {
 	d := grow(t, words123(t), attr(7, "aria-label", "l"), describedby(7, "a b"), labelledby(1, "c"), describedby(1, "c"), hidden(3))
 	checkMemo(t, d, 7, "l", "one two", 0, 1, 2, 3, 4, 7)
-	d = grow(t, field(t), attr(3, "value", "v"), element(0, "nav"), describedby(4, "box"))
-	checkMemo(t, d, 4, "", "v", 0, 3, 4)
+	d = grow(t, field(t), attr(3, "value", "v"), element(0, "nav"), attr(4, "aria-label", "l"), describedby(4, "box"))
+	checkMemo(t, d, 4, "l", "v", 0, 3, 4)
 	// 1 is asked already, though it stands in what is listed
 	d = build(t, element(0, "p"), text(1, "a"), element(1, "button"), text(3, "b"), text(1, "c"), id(1, "x"), describedby(3, "x"))
 	checkMemo(t, d, 3, "b", "a c", 0, 1, 2, 3, 4, 5)
 }
 
-// TestAboutOfOneThatMayHaveAName: be it empty, or it hidden.
-func TestAboutOfOneThatMayHaveAName(t *testing.T) {
-	checkMemo(t, one(t, "nav", "aria-describedby", "x"), 1, "", "beside", 0, 1, 3, 4)
-	checkMemo(t, one(t, "nav", "hidden", "", "aria-describedby", "x"), 1, "", "beside", 0, 1, 3, 4)
-	checkMemo(t, one(t, "nav", "hidden", "", "title", "t"), 1, "", "t", 0, 1)
-	checkMemo(t, one(t, "div", "aria-describedby", "x", "title", "t"), 1, "", "", 0, 1)
+// TestWithoutANameThereIsNoAbout: and who is listed is not asked then.
+func TestWithoutANameThereIsNoAbout(t *testing.T) {
+	for _, more := range [][]string{{"aria-describedby", "x"}, {"title", "t"}, {"aria-describedby", "x", "title", "t"}} {
+		for _, name := range []string{"hidden", "aria-hidden"} {
+			d := with(t, one(t, "button", more...), 1, name, "true")
+			checkMemo(t, d, 1, "", "", 0, 1)
+			checkMemo(t, with(t, d, 1, "aria-label", "l"), 1, "", "", 0, 1)
+		}
+	}
+	for _, tag := range []string{"nav", "ul", "table", "dialog", "input", "img"} { // no role of these has Content
+		d := one(t, tag, "aria-describedby", "x")
+		checkMemo(t, d, 1, "", "", 0, 1)
+		checkMemo(t, with(t, d, 1, "title", " \t"), 1, "", "", 0, 1)
+		checkMemo(t, with(t, d, 1, "title", "t"), 1, "t", "beside", 0, 1, 3, 4)
+		checkMemo(t, with(t, d, 1, "aria-label", "l"), 1, "l", "beside", 0, 1, 3, 4)
+	}
+	checkMemo(t, one(t, "div", "aria-describedby", "x", "title", "t"), 1, "", "", 0, 1) // its role is not Named
+}
+
+// TestWhoWasAskedInVain: of one that has no name those that were asked for it are used.
+func TestWhoWasAskedInVain(t *testing.T) {
+	d := build(t, element(0, "button"), element(1, "b"), element(0, "p"), element(0, "p"), text(4, "that"), id(3, "no"), id(4, "x"), labelledby(1, "no"), describedby(1, "x"))
+	checkMemo(t, d, 1, "", "", 0, 1, 2, 3)
+	checkMemo(t, with(t, d, 2, "aria-label", "b"), 1, "b", "that", 0, 1, 2, 3, 4, 5)
+}
+
+func TestATextHasNoAbout(t *testing.T) {
+	d := one(t, "button", "aria-describedby", "x", "title", "t")
+	checkMemo(t, d, 2, "in it", "", 0, 1, 2)
+	checkMemo(t, d, 4, "beside", "", 0, 3, 4)
 }
 
 func TestTheRoot(t *testing.T) {
@@ -478,7 +545,7 @@ func TestTheRoot(t *testing.T) {
 	d = grow(t, d, attr(0, "role", "none"), cleared(0, "aria-labelledby"))
 	checkMemo(t, d, 0, "", "", 0)
 	checkMemo(t, with(t, d, 0, "role", "heading"), 0, "in it beside", "beside", 0, 1, 2, 3, 4)
-	checkMemo(t, with(t, d, 0, "role", "heading", "hidden", ""), 0, "", "beside", 0, 3, 4)
+	checkMemo(t, with(t, d, 0, "role", "heading", "hidden", ""), 0, "", "", 0)
 	d = build(t, element(0, "nav"), text(0, "a"), id(0, "r"), labelledby(1, "r"))
 	checkMemo(t, d, 1, "a", "", 0, 1, 2)
 }
@@ -500,17 +567,31 @@ func TestManyThatListOneAnother(t *testing.T) {
 
 // hand reckons a name by a list of all that it may come of, each one a function that is called when it is its turn.
 type hand struct {
-	d      api.Doc
-	claims []api.Claim
-	asked  []int
+	d             api.Doc
+	claims        []api.Claim
+	asked, listed []int
+}
+
+// isListed looks at all that n is in.
+func (h *hand) isListed(n int) bool {
+	for ; n >= 0; n = owns.Up(h.d, h.claims, n) {
+		if slices.Contains(h.listed, n) {
+			return true
+		}
+	}
+	return false
 }
 
 func (h *hand) join(l []int, listed bool) string {
 	out := ""
 	for _, k := range l {
-		if k >= 0 && !slices.Contains(h.asked, k) {
-			out += " " + h.name(k, false, listed)
+		if k < 0 || slices.Contains(h.asked, k) {
+			continue
 		}
+		if listed {
+			h.listed = append(h.listed, k)
+		}
+		out += " " + h.name(k, false)
 	}
 	return strings.Join(strings.Fields(out), " ")
 }
@@ -538,9 +619,9 @@ func (h *hand) label(n int) []int {
 	return nil
 }
 
-func (h *hand) name(n int, own, listed bool) string {
+func (h *hand) name(n int, own bool) string {
 	h.asked = append(h.asked, n)
-	if role.Hidden(h.d, n) && !listed {
+	if role.Hidden(h.d, n) && !h.isListed(n) {
 		return ""
 	}
 	tag, is := h.d[n].Tag, role.Of(h.d, n)
@@ -557,8 +638,8 @@ func (h *hand) name(n int, own, listed bool) string {
 		{true, said("aria-label")},
 		{box, said("value")},
 		{!box && tag == "img", said("alt")},
-		{!box && tag == "input", func() string { return h.join(h.label(n), listed) }},
-		{!box && (!own || kinds.Of(is).Content), func() string { return h.join(owns.Kids(h.d, h.claims, n), listed) }},
+		{!box && tag == "input", func() string { return h.join(h.label(n), false) }},
+		{!box && (!own || kinds.Of(is).Content), func() string { return h.join(owns.Kids(h.d, h.claims, n), false) }},
 		{!box, said("title")},
 	} {
 		if way.may {
@@ -579,11 +660,11 @@ func byHand(d api.Doc, n int) api.Memo {
 	all := []int{n}
 	named := kinds.Of(role.Of(d, n)).Named
 	if named || d[n].Tag == "" {
-		memo.Name = h.name(n, true, false)
+		memo.Name = h.name(n, true)
 		all = append(all, h.asked...)
 	}
-	if named {
-		h.asked = []int{n}
+	if named && memo.Name != "" {
+		h.asked, h.listed = []int{n}, nil
 		memo.About = h.list(n, "aria-describedby")
 		if title := role.Said(d, n, "title"); memo.About == "" && title != memo.Name {
 			memo.About = title
@@ -603,7 +684,7 @@ func byHand(d api.Doc, n int) api.Memo {
 func TestNamesOfManyDocuments(t *testing.T) {
 	next := rule(1)
 	names, abouts, most := 0, 0, 0
-	for range 400 {
+	for range 1600 {
 		d := grown(next)
 		for n := range d {
 			want := byHand(d, n)
